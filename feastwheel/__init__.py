@@ -1,0 +1,1 @@
+"""Feastwheel: calendars and rules of days."""
