@@ -4,6 +4,9 @@ from feastwheel.errors import NoNumber, TooLong
 from feastwheel.remains import common, refuse_below_one
 
 LONGEST = 150000
+# Bits are put together and taken apart in pieces of this many, since a step over all
+# the bits of a long round for each of its days would be slow.
+PIECE = 256
 
 
 def refuse_too_long(size):
@@ -16,10 +19,23 @@ def round_by(size, days):
     """Tell the round of this size that holds on the days and on all alike to them."""
     refuse_below_one(size)
     refuse_too_long(size)
-    bits = 0
+    pieces = [0] * (size // PIECE + 1)
     for day in days:
-        bits = bits | (1 << (day % size))
+        place = day % size
+        pieces[place // PIECE] = pieces[place // PIECE] | (1 << (place % PIECE))
+    bits = 0
+    for number in range(len(pieces)):
+        bits = bits | (pieces[number] << (number * PIECE))
     return (size, bits)
+
+
+def days_in(turn):
+    """Tell the days from 0 to below the size on which the round holds, in their order."""
+    days = []
+    for first in range(0, turn[0], PIECE):
+        piece = (turn[1] >> first) & full_bits(PIECE)
+        days.extend([first + place for place in range(PIECE) if (piece >> place) & 1])
+    return days
 
 
 def on(turn, day):

@@ -146,6 +146,74 @@ def name_faults(tree, methods):
                 yield f"L25 the method {node.func.attr}"
 
 
+def inner_names(tree):
+    """The names of parameters and locals, and of defs within defs."""
+    for outer in ast.walk(tree):
+        if isinstance(outer, (ast.FunctionDef, ast.Lambda)):
+            for node in ast.walk(outer):
+                if isinstance(node, ast.arg):
+                    yield node.arg
+                elif isinstance(node, ast.Name) and isinstance(node.ctx, ast.Store):
+                    yield node.id
+                elif isinstance(node, ast.FunctionDef) and node is not outer:
+                    yield node.name
+
+
+def shadow_faults(tree):
+    """Parameters and locals that are called like a class or an import of their file."""
+    taken = set(imported_names(tree)) | {node.name for node in tree.body if isinstance(node, ast.ClassDef)}
+    for name in inner_names(tree):
+        if name in taken:
+            yield f"L15 {name} is a class or an import of the file"
+
+
+def values_of(trees):
+    """The names of the values that the methods of the package's classes keep."""
+    return {node.attr for tree in trees for node in ast.walk(tree)
+            if isinstance(node, ast.Attribute) and isinstance(node.ctx, ast.Store)}
+
+
+def is_called(node, names):
+    return isinstance(node, ast.Call) and isinstance(node.func, ast.Name) and node.func.id in names
+
+
+def walked_on_the_spot(tree):
+    """The expressions that stand where what is walked at once may stand."""
+    for node in ast.walk(tree):
+        if isinstance(node, (ast.For, ast.comprehension)):
+            yield node.iter
+        elif is_called(node, ("list", "tuple", "dict", "sorted", "sum", "any", "all", "enumerate")):
+            yield from node.args[:1]
+        elif is_called(node, ("zip",)):
+            yield from node.args
+        elif is_called(node, ("min", "max")) and len(node.args) == 1:
+            yield node.args[0]
+        elif isinstance(node, ast.Call) and isinstance(node.func, ast.Attribute) and node.func.attr == "join":
+            yield from node.args
+
+
+def walk_faults(tree):
+    spots = list(walked_on_the_spot(tree))
+    for node in ast.walk(tree):
+        lazy = is_called(node, ("zip", "enumerate", "reversed", "range"))
+        if isinstance(node, ast.Call) and isinstance(node.func, ast.Attribute):
+            lazy = node.func.attr in ("items", "keys", "values")
+        if lazy and node not in spots:
+            yield "L23 what is walked at once is kept"
+        if is_called(node, ("set", "frozenset")) or isinstance(node, ast.Set):
+            yield "L24 a set: look whether it stands where one may"
+
+
+def keyword_faults(tree):
+    allowed = {"sorted": ("key", "reverse"), "min": ("key", "default"), "max": ("key", "default"),
+               "sum": ("start",), "enumerate": ("start",), "zip": ("strict",)}
+    for node in ast.walk(tree):
+        if isinstance(node, ast.Call) and isinstance(node.func, ast.Name) and node.func.id in OWN_NAMES:
+            for keyword in node.keywords:
+                if keyword.arg not in allowed.get(node.func.id, ()):
+                    yield f"L22 the keyword {keyword.arg}"
+
+
 def top_faults(tree, files):
     for node in tree.body:
         plain = isinstance(node, ast.Expr) and isinstance(node.value, ast.Constant)
@@ -176,6 +244,7 @@ def faults(text, files=None):
     tree = ast.parse(text)
     methods = methods_of(list(files.values()) + [tree])
     found = list(text_faults(text)) + list(name_faults(tree, methods)) + list(top_faults(tree, files))
+    found.extend(list(shadow_faults(tree)) + list(walk_faults(tree)) + list(keyword_faults(tree)))
     for node in ast.walk(tree):
         found.extend(statement_faults(node))
         found.extend(expression_faults(node))
@@ -214,6 +283,10 @@ class Package(unittest.TestCase):
             with self.subTest(path.name):
                 self.assertEqual(faults(path.read_text(), self.files), [])
 
+    def test_no_name_is_a_method_and_a_value(self):
+        trees = list(self.files.values())
+        self.assertEqual(methods_of(trees) & values_of(trees), set())
+
     def test_no_two_files_draw_from_one_another(self):
         self.assertFalse(draws_in_a_ring(self.files))
 
@@ -229,10 +302,22 @@ class Samples(unittest.TestCase):
             "L17": "# a type", "L20": "def f(a, b):\n    return a is b",
             "L25": "def f(a):\n    return a.encode()", "L27": "def f(n):\n    return 2 ** n",
             "L3": "for a in [1]:\n    pass", "L10": "# " + "a" * 120,
+            "L22": "def f(a):\n    return int(a, base=2)", "L23": "def f(a):\n    b = range(a)\n    return b",
+            "L24": "def f(a):\n    return set(a)",
         }
         for rule, text in samples.items():
             with self.subTest(rule):
                 self.assertIn(rule, [fault.split()[0] for fault in faults(text)])
+
+    def test_a_local_like_an_import_or_a_class_is_seen(self):
+        for text in ("from p.b import x\ndef f(x):\n    return x", "class A:\n    pass\ndef f(a):\n    A = a"):
+            with self.subTest(text):
+                self.assertIn("L15", [fault.split()[0] for fault in shadow_faults(ast.parse(text))])
+
+    def test_a_method_that_is_a_value_is_seen(self):
+        trees = [ast.parse("class A:\n    def on(self):\n        return 1"),
+                 ast.parse("class B:\n    def __init__(self):\n        self.on = 1")]
+        self.assertEqual(methods_of(trees) & values_of(trees), {"on"})
 
     def test_a_ring_is_seen(self):
         ring = {"p.a": ast.parse("from p.b import x"), "p.b": ast.parse("from p.a import y")}

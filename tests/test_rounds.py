@@ -6,38 +6,13 @@ import math
 import unittest
 
 from feastwheel import rounds
-from feastwheel.errors import NoNumber, TooLong
+from feastwheel.errors import NoNumber
 from feastwheel.rounds import (
     both, either, folded, later, least, on, other_days, round_by, stretched, unlike, without,
 )
+from helper import BELOW_ONE, FAR, LONGEST, RoundCase, days_of, holds
 
-LONGEST = 150000
-FAR = 10 ** 99
-BELOW_ONE = [0, -1, -3, -FAR]
 ALL_SMALL = [(size, bits) for size in range(1, 7) for bits in range(1 << size)]
-
-
-def holds(turn, day):
-    """The words of point 8, not the program's own function."""
-    size, bits = turn
-    return (bits >> (day % size)) & 1 == 1
-
-
-def days_of(turn, first=-40, end=41):
-    return [day for day in range(first, end) if holds(turn, day)]
-
-
-class RoundCase(unittest.TestCase):
-    def assert_round(self, turn):
-        self.assertIs(type(turn), tuple)
-        self.assertEqual([type(part) for part in turn], [int, int])
-        self.assertTrue(1 <= turn[0] <= LONGEST)
-        self.assertTrue(0 <= turn[1] < 1 << turn[0])
-
-    def assert_too_long(self, needed, call, *given):
-        with self.assertRaises(TooLong) as taken:
-            call(*given)
-        self.assertEqual(taken.exception.needed, needed)
 
 
 class Interface(unittest.TestCase):
