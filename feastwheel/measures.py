@@ -15,8 +15,8 @@ def term_on(term, k):
 
 def signs_upto(terms, k):
     """Tell the sum of the signs over the numbers from 0 to k - 1, minus that from k to -1."""
-    # (a k + b) // n is 0 for k = 0, and it grows by 1 just from those k on to the next
-    # number in which the term is on; so it need not be walked there.
+    # (a k + b) // n is 0 for k = 0, and from k to k + 1 it grows by 1 where the term is on
+    # in k, and else not at all: so it is what walking there would count.
     return sum([term[0] * ((term[1] * k + term[2]) // term[3]) for term in terms])
 
 
@@ -54,6 +54,14 @@ def refuse_measure(base, terms):
         raise NoMeasure("a length could fall below 0")
 
 
+def period_of(terms):
+    """Tell the least number from 1 on that the n of all terms divide."""
+    told = 1
+    for term in terms:
+        told = common(told, term[3])
+    return told
+
+
 class Measure:
     """A length for each whole number: the base, and the signs of the terms that are on."""
 
@@ -61,9 +69,7 @@ class Measure:
         self.base = base
         self.terms = () if terms is None else tuple(terms)
         refuse_measure(self.base, self.terms)
-        self.full_count = 1
-        for term in self.terms:
-            self.full_count = common(self.full_count, term[3])
+        self.full_count = period_of(self.terms)
         self.full_sum = self.upto(self.full_count)
         # No length is below 0, so they come to 0 only where each of them is 0.
         if self.full_sum == 0:

@@ -40,3 +40,21 @@ class RoundCase(unittest.TestCase):
         with self.assertRaises(TooLong) as taken:
             call(*given)
         self.assertEqual(taken.exception.needed, needed)
+
+
+# The months and the terms of the calendars of point 33.
+TWELVE = [31, 28, 31, 30, 31, 30, 31, 31, 30, 31, 30, 31]
+FOURTH = (1, 1, 3, 4)
+GREGORIAN = [FOURTH, (-1, 1, 99, 100), (1, 1, 399, 400)]
+# The period of these has eighteen figures.
+LONG_TERMS = [(1, 1, 0, 997), (-1, 500, 3, 991), (1, 982, 982, 983), (-1, 3, 9, 977), (1, 970, 5, 971), (-1, 1, 0, 967)]
+
+
+def term_is_on(term, k):
+    """The words of point 20."""
+    sign, a, b, n = term
+    return (a * k + b) % n + a >= n
+
+
+def signs_in(terms, k):
+    return sum(term[0] for term in terms or [] if term_is_on(term, k))

@@ -7,27 +7,17 @@ import unittest
 from feastwheel import measures
 from feastwheel.errors import NoMeasure
 from feastwheel.measures import Measure, counter, term_on
-from helper import FAR
+from helper import FAR, FOURTH, GREGORIAN, LONG_TERMS, signs_in, term_is_on
 
-LEAP = (1, 1, 3, 4)
 SEVEN = (1, 7, 0, 19)
 SMALL_TERMS = [(sign, a, b, n) for sign in (1, -1) for n in range(1, 6) for a in range(n + 1) for b in range(n)]
-GREGORIAN = [(1, 1, 3, 4), (-1, 1, 99, 100), (1, 1, 399, 400)]
-# The period of these has eighteen figures.
-LONG_TERMS = [(1, 1, 0, 997), (-1, 500, 3, 991), (1, 982, 982, 983), (-1, 3, 9, 977), (1, 970, 5, 971), (-1, 1, 0, 967)]
-
-
-def says_on(term, k):
-    """The words of point 20."""
-    sign, a, b, n = term
-    return (a * k + b) % n + a >= n
 
 
 def summed(terms, k):
     """The words of point 21."""
     if k >= 0:
-        return sum(term[0] for number in range(k) for term in terms if says_on(term, number))
-    return -sum(term[0] for number in range(k, 0) for term in terms if says_on(term, number))
+        return sum(signs_in(terms, number) for number in range(k))
+    return -sum(signs_in(terms, number) for number in range(k, 0))
 
 
 class Interface(unittest.TestCase):
@@ -45,7 +35,7 @@ class Interface(unittest.TestCase):
 class TermOn(unittest.TestCase):
     def test_the_numbers_that_four_divides(self):
         for k in list(range(-20, 21)) + [4 * FAR, 4 * FAR + 1, -4 * FAR, -4 * FAR - 3]:
-            self.assertIs(term_on(LEAP, k), k % 4 == 0)
+            self.assertIs(term_on(FOURTH, k), k % 4 == 0)
 
     def test_seven_of_any_nineteen_running(self):
         for first in list(range(-40, 41)) + [FAR, -FAR]:
@@ -63,7 +53,7 @@ class TermOn(unittest.TestCase):
         for term in SMALL_TERMS:
             for k in list(range(-12, 13)) + [FAR, -FAR]:
                 with self.subTest(term=term, k=k):
-                    self.assertIs(term_on(term, k), says_on(term, k))
+                    self.assertIs(term_on(term, k), term_is_on(term, k))
 
 
 class Counter(unittest.TestCase):
@@ -75,7 +65,7 @@ class Counter(unittest.TestCase):
                     self.assertEqual(told(k), summed([term], k))
 
     def test_several_terms_against_the_sum(self):
-        for terms in (GREGORIAN, [LEAP, LEAP, (-1, 2, 0, 5)], LONG_TERMS, SMALL_TERMS[::9]):
+        for terms in (GREGORIAN, [FOURTH, FOURTH, (-1, 2, 0, 5)], LONG_TERMS, SMALL_TERMS[::9]):
             told = counter(terms)
             for k in (-1300, -401, -7, -1, 0, 1, 2, 19, 400, 401, 1234):
                 with self.subTest(terms=terms, k=k):
@@ -95,14 +85,14 @@ class Counter(unittest.TestCase):
         self.assertEqual(told(-400 * FAR), -97 * FAR)
         for first in (400 * FAR, -400 * FAR, FAR + 3, -FAR + 3):
             for many in (1, 5, 150):
-                signs = [t[0] for k in range(first, first + many) for t in GREGORIAN if says_on(t, k)]
-                self.assertEqual(told(first + many) - told(first), sum(signs))
+                signs = sum(signs_in(GREGORIAN, k) for k in range(first, first + many))
+                self.assertEqual(told(first + many) - told(first), signs)
 
     def test_a_thousand_terms(self):
-        self.assertEqual(counter([LEAP] * 1000)(9), 3000)
+        self.assertEqual(counter([FOURTH] * 1000)(9), 3000)
 
     def test_the_list_may_change_behind_the_call(self):
-        terms = [LEAP]
+        terms = [FOURTH]
         told = counter(terms)
         terms.append(SEVEN)
         terms[0] = (-1, 1, 0, 1)
@@ -111,7 +101,7 @@ class Counter(unittest.TestCase):
 
 
 def length(base, terms, k):
-    return base + sum(term[0] for term in terms if says_on(term, k))
+    return base + signs_in(terms, k)
 
 
 def measured(base, terms, k):
@@ -149,14 +139,14 @@ class Lengths(unittest.TestCase):
             measure = Measure(base, terms)
             for k in range(-45, 46):
                 with self.subTest(base=base, terms=terms, k=k):
-                    self.assertEqual(measure.at(k), length(base, terms or [], k))
-                    self.assertEqual(measure.upto(k), measured(base, terms or [], k))
+                    self.assertEqual(measure.at(k), length(base, terms, k))
+                    self.assertEqual(measure.upto(k), measured(base, terms, k))
 
     def test_seek_against_walking(self):
         for base, terms in MEASURES:
             measure = Measure(base, terms)
             for k in range(-30, 31):
-                first, end = measured(base, terms or [], k), measured(base, terms or [], k + 1)
+                first, end = measured(base, terms, k), measured(base, terms, k + 1)
                 for total in range(first, end):
                     with self.subTest(base=base, terms=terms, total=total):
                         self.assertEqual(measure.seek(total), k)
@@ -171,7 +161,7 @@ class Lengths(unittest.TestCase):
                     self.assertLessEqual(measure.upto(k), total)
                     self.assertLess(total, measure.upto(k + 1))
                     self.assertEqual(measure.upto(k + 1) - measure.upto(k), measure.at(k))
-                    self.assertEqual(measure.at(k), length(base, terms or [], k))
+                    self.assertEqual(measure.at(k), length(base, terms, k))
 
     def test_lengths_of_nought_among_them(self):
         measure = Measure(0, [(1, 1, 3, 4)])
@@ -190,9 +180,9 @@ class Lengths(unittest.TestCase):
         self.assertEqual(len(str(period)), 18)
 
     def test_what_was_handed_in_stays_and_may_change_behind_the_call(self):
-        terms = [LEAP]
+        terms = [FOURTH]
         measure = Measure(365, terms)
-        self.assertEqual(terms, [LEAP])
+        self.assertEqual(terms, [FOURTH])
         terms.append(SEVEN)
         terms[0] = (1, 1, 0, 1)
         self.assertEqual([measure.at(k) for k in range(4)], [366, 365, 365, 365])
@@ -211,7 +201,7 @@ class Refused(unittest.TestCase):
         for base in (-1, -FAR, 20001, FAR):
             self.assert_refused(base)
             self.assert_refused(base, [])
-            self.assert_refused(base, [LEAP])
+            self.assert_refused(base, [FOURTH])
         self.assertEqual(Measure(20000).at(5), 20000)
         self.assertEqual(Measure(0, [(1, 1, 0, 1)]).at(5), 1)
 
@@ -238,18 +228,18 @@ class Refused(unittest.TestCase):
             self.assertEqual(Measure(9, [(1, 1, b, 4)]).upto(4), 37)
 
     def test_a_tuple_that_is_no_term_behind_terms(self):
-        self.assert_refused(9, [LEAP, SEVEN, (1, 1, 1, 1)])
+        self.assert_refused(9, [FOURTH, SEVEN, (1, 1, 1, 1)])
 
     def test_more_than_six_terms(self):
-        self.assertEqual(Measure(9, [LEAP] * 6).at(0), 15)
-        self.assert_refused(9, [LEAP] * 7)
-        self.assert_refused(9, [LEAP] * 1000)
+        self.assertEqual(Measure(9, [FOURTH] * 6).at(0), 15)
+        self.assert_refused(9, [FOURTH] * 7)
+        self.assert_refused(9, [FOURTH] * 1000)
 
     def test_the_base_less_the_terms_with_a_minus(self):
         never_together = [(-1, 1, 0, 2), (-1, 1, 1, 2)]
         self.assert_refused(1, never_together)
         self.assert_refused(0, [(-1, 0, 0, 1)])
-        self.assert_refused(0, [LEAP, (-1, 0, 0, 1)])
+        self.assert_refused(0, [FOURTH, (-1, 0, 0, 1)])
         self.assertEqual(Measure(2, never_together).upto(2), 2)
         self.assertEqual(Measure(1, [(-1, 1, 0, 2)]).upto(2), 1)
         self.assertEqual(Measure(6, [(-1, 1, 0, 2)] * 6).upto(2), 6)
