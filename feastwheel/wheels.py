@@ -3,54 +3,59 @@
 from feastwheel.asks import how_many
 from feastwheel.errors import NoNumber
 from feastwheel.remains import refuse_below_one
-from feastwheel.rounds import common_size, days_in, full_bits, refuse_too_long, round_by, stretched
+from feastwheel.rounds import both, common_size, days_in, either, later, other_days
+from feastwheel.rounds import refuse_too_long, round_by, stretched, without
 
 
-def neighbours(R, S, size):
-    """Tell for each S day of one round (last R day up to it, S day, first R day from it on)."""
-    if R[1] == 0:
-        return []
-    days = days_in(stretched(R, size))
-    # One R day on either side of the round, so that each S day has one ahead and one behind.
-    row = [days[-1] - size] + days + [days[0] + size]
-    told = []
-    place = 0
-    for day in days_in(stretched(S, size)):
-        while row[place + 1] < day:
-            place = place + 1
-        behind = row[place + 1]
-        ahead = day if behind == day else row[place]
-        told.append((ahead, day, behind))
+def reached(seeds, closed, step):
+    """Tell the seeds and the days come to from them, forth (step 1) or back (-1); no closed day is left again."""
+    told = seeds
+    stride = step
+    free = other_days(closed)
+    # One may go on by the stride from the free days. It doubles, since a walk day by day would be long.
+    while abs(stride) < seeds[0]:
+        told = either(told, later(both(told, free), stride))
+        free = both(free, later(free, -stride))
+        stride = 2 * stride
     return told
 
 
 def upon(R, S):
     """Tell the first R day from each S day on."""
     size = common_size(R, S)
-    return round_by(size, [found[2] for found in neighbours(R, S, size)])
+    days = stretched(R, size)
+    return both(days, reached(stretched(S, size), days, 1))
 
 
 def until(R, S):
     """Tell the last R day up to each S day."""
     size = common_size(R, S)
-    return round_by(size, [found[0] for found in neighbours(R, S, size)])
+    days = stretched(R, size)
+    return both(days, reached(stretched(S, size), days, -1))
 
 
-def nearer(found):
-    """Tell the nearer one of the R days beside an S day, of two as near the earlier one."""
-    if found[1] - found[0] <= found[2] - found[1]:
-        return found[0]
-    return found[2]
+def till(R, S):
+    """Tell the days from each R day on that lie ahead of the next S day behind it."""
+    size = common_size(R, S)
+    return reached(stretched(R, size), later(stretched(S, size), -1), 1)
+
+
+def nearer_ahead(R):
+    """Tell the days whose nearest R day is not behind them, of two as near the earlier one."""
+    days = days_in(R)
+    behind = days[1:] + [day + R[0] for day in days[:1]]
+    first_nearer = [(day + other) // 2 + 1 for day, other in zip(days, behind)]
+    return till(R, round_by(R[0], first_nearer))
 
 
 def near(R, S):
     """Tell the nearest R day of each S day."""
-    size = common_size(R, S)
-    return round_by(size, [nearer(found) for found in neighbours(R, S, size)])
+    early = nearer_ahead(R)
+    return either(until(R, both(S, early)), upon(R, without(S, early)))
 
 
 def spans(R, S, size):
-    """Tell for the span of each S day of one round (its R days in their order, next S day)."""
+    """Tell for the span of each S day of one round its R days in their order."""
     begins = days_in(stretched(S, size))
     if len(begins) == 0:
         return []
@@ -63,20 +68,8 @@ def spans(R, S, size):
         first = place
         while place < len(row) and row[place] < end:
             place = place + 1
-        told.append((row[first:place], end))
+        told.append(row[first:place])
     return told
-
-
-def till(R, S):
-    """Tell the days from each R day on that lie ahead of the next S day behind it."""
-    size = common_size(R, S)
-    if R[1] > 0 and S[1] == 0:
-        return (size, full_bits(size))
-    days = []
-    for span in spans(R, S, size):
-        if len(span[0]) > 0:
-            days.extend(list(range(span[0][0], span[1])))
-    return round_by(size, days)
 
 
 def kth(number, R, S):
@@ -85,8 +78,7 @@ def kth(number, R, S):
         raise NoNumber("the days of a span are counted from 1 on or from -1 back")
     size = common_size(R, S)
     place = number - 1 if number > 0 else number
-    full = [span[0] for span in spans(R, S, size) if len(span[0]) >= abs(number)]
-    return round_by(size, [days[place] for days in full])
+    return round_by(size, [span[place] for span in spans(R, S, size) if len(span) >= abs(number)])
 
 
 def every(number, R, day):

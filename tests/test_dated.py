@@ -9,6 +9,7 @@ from feastwheel.dated import dated
 from feastwheel.errors import NoCycle, NoNumber
 from feastwheel.measures import Measure
 from helper import BELOW_ONE, FAR, FOURTH, GREGORIAN, LONG_TERMS, LONGEST, TWELVE, RoundCase, days_of, holds
+from words import says_dated
 
 OLD = Sun(0, TWELVE, 2, [FOURTH])
 NEW = Sun(2, TWELVE, 2, GREGORIAN)
@@ -21,22 +22,6 @@ SMALL = [
     Moon(5, Measure(3, [(1, 1, 0, 2)]), Measure(2, [(1, 1, 1, 3)])),
     Moon(-9, Measure(2), Measure(3)),
 ]
-
-
-def says(calendar, day, wanted):
-    """The words of the point, asked of one day through its date."""
-    month, number, step, rest = wanted
-    date = calendar.date_of(day)
-    if (date[0] - rest) % step != 0:
-        return False
-    if month is not None and date[1] != month:
-        return False
-    if number is None:
-        return True
-    if number > 0:
-        return date[2] == number
-    lengths = calendar.lengths(date[0])
-    return date[2] == lengths[date[1] - 1] + 1 + number
 
 
 class Interface(RoundCase):
@@ -54,7 +39,7 @@ class DayByDay(RoundCase):
         size = math.lcm(years, wanted[2]) // years * days
         self.assertEqual(told[0], size)
         for first in (-7, 10 ** 40):
-            asked = [says(calendar, day, wanted) for day in range(first, first + size)]
+            asked = [says_dated(calendar, day, wanted) for day in range(first, first + size)]
             self.assertEqual([holds(told, day) for day in range(first, first + size)], asked)
 
     def test_months_and_days_told_or_left_out(self):

@@ -9,6 +9,7 @@ from feastwheel import wheels
 from feastwheel.errors import NoNumber
 from feastwheel.wheels import every, kth, mirrored, near, till, until, upon
 from helper import BELOW_ONE, FAR, LONGEST, RoundCase, days_of, holds, some_round
+from words import says_kth, says_near, says_till, says_until, says_upon
 
 SEVENTH = (7, 1)
 TENTH = (10, 1 << 3)
@@ -27,56 +28,6 @@ def pairs_of_rounds():
     for size, other in ((30, 42), (64, 16), (20, 300)):
         yield (size, 1 << 5 | 1 << 6), some_round(other, 1)
         yield some_round(size, 1), (other, 1 << 11 | 1 << 2)
-
-
-def says_upon(R, S, day, size):
-    if not holds(R, day):
-        return False
-    for sooner in range(day, day - size - 1, -1):
-        if sooner < day and holds(R, sooner):
-            return False
-        if holds(S, sooner):
-            return True
-    return False
-
-
-def says_until(R, S, day, size):
-    if not holds(R, day):
-        return False
-    for later in range(day, day + size + 1):
-        if later > day and holds(R, later):
-            return False
-        if holds(S, later):
-            return True
-    return False
-
-
-def nearest(R, day, size):
-    for far in range(size + 1):
-        for found in (day - far, day + far):
-            if holds(R, found):
-                return found
-    return None
-
-
-def says_near(R, S, day, size):
-    return any(holds(S, s) and nearest(R, s, size) == day for s in range(day - size, day + size + 1))
-
-
-def says_till(R, S, day, size):
-    return any(holds(R, r) and not any(holds(S, s) for s in range(r + 1, day + 1))
-               for r in range(day - size, day + 1))
-
-
-def says_kth(number, R, S, day, size):
-    begins = [s for s in range(day - size + 1, day + 1) if holds(S, s)]
-    if not begins:
-        return False
-    end = next(s for s in range(day + 1, day + size + 1) if holds(S, s))
-    days = [r for r in range(begins[-1], end) if holds(R, r)]
-    if abs(number) > len(days):
-        return False
-    return day == (days[number - 1] if number > 0 else days[number])
 
 
 WHEELS = ((upon, says_upon), (until, says_until), (near, says_near), (till, says_till))
