@@ -1,9 +1,22 @@
-"""Numbers and dates as texts."""
+"""Numbers, dates and names as texts."""
 
 from feastwheel.errors import NoText
 
 FIGURES = "0123456789"
 MOST_FIGURES = 60
+LETTERS = "abcdefghijklmnopqrstuvwxyz"
+MOST_LETTERS = 8
+MOST_SIGNS = 4000
+
+
+def is_name(text):
+    """Tell whether a text is a name."""
+    return 1 <= len(text) <= MOST_LETTERS and all([sign in LETTERS for sign in text])
+
+
+def is_readable(text):
+    """Tell whether this is a text, and no longer than that of a calendar or a rule may be."""
+    return isinstance(text, str) and len(text) <= MOST_SIGNS
 
 
 def is_number(text):

@@ -7,6 +7,9 @@ from feastwheel.errors import TooLong
 LONGEST = 150000
 FAR = 10 ** 99
 BELOW_ONE = [0, -1, -3, -FAR]
+# Things that are no texts; a number may have any size.
+NO_TEXTS = [None, 0, 5, -5, FAR, 1 << 200000, -(10 ** 5000), True, False, [], ["5"], ("5",), {"5": 5}, 5.0, b"5",
+            (7, 3, 4)]
 
 
 def holds(turn, day):

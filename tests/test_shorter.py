@@ -70,8 +70,8 @@ class Shorter(ShorterCase):
 
     def test_on_one_day_of_the_least_round(self):
         week = Each(7, 3)
-        for rule in (week, Both(Each(14, 3), week), Either(Each(14, 3), Each(14, 10)), Later(4, week), Every(2, week, 0),
-                     Until(week, All()), Not(Either(Each(2, 0), Each(4, 1))), Near(week, All())):
+        for rule in (week, Both(Each(14, 3), week), Either(Each(14, 3), Each(14, 10)), Later(4, week),
+                     Every(2, week, 0), Until(week, All()), Not(Either(Each(2, 0), Each(4, 1))), Near(week, All())):
             turn = least(rule.turn())
             self.assert_told(f"each {turn[0]} from {turn[1].bit_length() - 1}", rule)
         self.assert_told("each 2 from 1", Not(Each(2, 0)))
