@@ -4,18 +4,21 @@ from feastwheel.asks import how_many
 from feastwheel.errors import NoNumber
 from feastwheel.remains import refuse_below_one
 from feastwheel.rounds import both, common_size, days_in, either, later, other_days
-from feastwheel.rounds import refuse_too_long, round_by, stretched, without
+from feastwheel.rounds import refuse_too_long, round_by, stretched, unlike, without
 
 
-def reached(seeds, closed, step):
-    """Tell the seeds and the days come to from them, forth (step 1) or back (-1); no closed day is left again."""
-    told = seeds
+def gathered(turn, barred, step, join):
+    """Join for each day the round's days from the last barred day up to it; with step -1 from it on to the next one.
+
+    It holds where at least one of these is a day of the round (either), or an odd number of them is (unlike).
+    """
+    told = turn
+    free = other_days(barred)
     stride = step
-    free = other_days(closed)
-    # One may go on by the stride from the free days. It doubles, since a walk day by day would be long.
-    while abs(stride) < seeds[0]:
-        told = either(told, later(both(told, free), stride))
-        free = both(free, later(free, -stride))
+    # It doubles, since a walk day by day would be long. On a free day no barred day lies within the stride.
+    while abs(stride) < turn[0]:
+        told = join(told, both(later(told, stride), free))
+        free = both(free, later(free, stride))
         stride = 2 * stride
     return told
 
@@ -24,20 +27,20 @@ def upon(R, S):
     """Tell the first R day from each S day on."""
     size = common_size(R, S)
     days = stretched(R, size)
-    return both(days, reached(stretched(S, size), days, 1))
+    return both(days, gathered(stretched(S, size), later(days, 1), 1, either))
 
 
 def until(R, S):
     """Tell the last R day up to each S day."""
     size = common_size(R, S)
     days = stretched(R, size)
-    return both(days, reached(stretched(S, size), days, -1))
+    return both(days, gathered(stretched(S, size), later(days, -1), -1, either))
 
 
 def till(R, S):
     """Tell the days from each R day on that lie ahead of the next S day behind it."""
     size = common_size(R, S)
-    return reached(stretched(R, size), later(stretched(S, size), -1), 1)
+    return gathered(stretched(R, size), stretched(S, size), 1, either)
 
 
 def nearer_ahead(R):
@@ -54,31 +57,22 @@ def near(R, S):
     return either(until(R, both(S, early)), upon(R, without(S, early)))
 
 
-def spans(R, S, size):
-    """Tell for the span of each S day of one round its R days in their order."""
-    begins = days_in(stretched(S, size))
-    if len(begins) == 0:
-        return []
-    days = days_in(stretched(R, size))
-    # The last span goes on into the next round, up to the first S day there.
-    row = [day for day in days if day >= begins[0]] + [day + size for day in days if day < begins[0]]
-    told = []
-    place = 0
-    for end in begins[1:] + [begins[0] + size]:
-        first = place
-        while place < len(row) and row[place] < end:
-            place = place + 1
-        told.append(row[first:place])
-    return told
-
-
 def kth(number, R, S):
     """Tell the number-th R day of each S day's span, below 0 counted from the span's end."""
     if number == 0:
         raise NoNumber("the days of a span are counted from 1 on or from -1 back")
     size = common_size(R, S)
-    place = number - 1 if number > 0 else number
-    return round_by(size, [span[place] for span in spans(R, S, size) if len(span) >= abs(number)])
+    step = 1 if number > 0 else -1
+    # The days from which is counted: the first one of each span, or the last one.
+    ends = stretched(S, size) if number > 0 else later(stretched(S, size), -1)
+    days = stretched(R, size)
+    place = abs(number)
+    # Every second R day of each span is left out, the sought ones staying, until these are the first ones.
+    while place > 1 and days[1] > 0:
+        odd = both(days, gathered(days, ends, step, unlike))
+        days = odd if place % 2 == 1 else without(days, odd)
+        place = (place + 1) // 2
+    return upon(days, ends) if number > 0 else until(days, ends)
 
 
 def every(number, R, day):
