@@ -34,7 +34,8 @@ def days_in(turn):
     days = []
     for first in range(0, turn[0], PIECE):
         piece = (turn[1] >> first) & full_bits(PIECE)
-        days.extend([first + place for place in range(PIECE) if (piece >> place) & 1])
+        if piece > 0:
+            days.extend([first + place for place in range(PIECE) if (piece >> place) & 1])
     return days
 
 
