@@ -8,10 +8,10 @@ from feastwheel.wheels import every, kth, near, till, until, upon
 class Rule:
     """The base of all kinds: its round, the rules that it is made of, and its words around theirs."""
 
-    def __init__(self, kept=(1, 0), made_of=(), words=("none",)):
-        self.kept = kept
-        self.made_of = made_of
-        self.words = words
+    def __init__(self, kept=None, made_of=None, words=None):
+        self.kept = (1, 0) if kept is None else kept
+        self.made_of = () if made_of is None else made_of
+        self.words = ("none",) if words is None else words
 
     def on(self, day):
         """Tell whether the rule holds on the day."""

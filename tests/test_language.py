@@ -114,6 +114,22 @@ def expression_faults(node):
             yield "L20 is beside another value"
 
 
+def is_plain(node):
+    """Whether an expression is a written whole number, text, True, False or None."""
+    if isinstance(node, ast.UnaryOp) and isinstance(node.op, ast.USub):
+        # Of a number with a sign ahead of it Python's tree tells the sign apart.
+        return isinstance(node.operand, ast.Constant) and type(node.operand.value) is int
+    return isinstance(node, ast.Constant) and isinstance(node.value, (int, str, type(None)))
+
+
+def default_faults(node):
+    """The defaults of a function, a method or a lambda that are no plain values."""
+    if isinstance(node, ast.arguments):
+        for default in node.defaults + [value for value in node.kw_defaults if value is not None]:
+            if not is_plain(default):
+                yield f"L4 the default {ast.unparse(default)} is not a plain value"
+
+
 def def_faults(node):
     if isinstance(node, (ast.FunctionDef, ast.ClassDef)) and node.decorator_list:
         yield "L4 a decorator"
@@ -249,6 +265,7 @@ def faults(text, files=None):
         found.extend(statement_faults(node))
         found.extend(expression_faults(node))
         found.extend(def_faults(node))
+        found.extend(default_faults(node))
     return found
 
 
@@ -308,6 +325,24 @@ class Samples(unittest.TestCase):
         for rule, text in samples.items():
             with self.subTest(rule):
                 self.assertIn(rule, [fault.split()[0] for fault in faults(text)])
+
+    def test_a_default_that_is_not_a_plain_value_is_seen(self):
+        forms = (
+            "def f(a, b={0}):\n    return b", "def f(a):\n    def g(b={0}):\n        return b\n    return g",
+            "class A:\n    def f(self, b={0}):\n        return b",
+            "class A:\n    def __init__(self, a=1, b={0}, c=None):\n        self.b = b",
+            "def f(a):\n    return lambda b={0}: b",
+        )
+        for form in forms:
+            for default in ("()", "(1, 0)", "('none',)", "[]", "{}", "{'a': 1}", "1.5", "b'a'", "...", "OTHER", "A.b",
+                            "-OTHER", "-True", "~1", "1 + 1", "f'{a}'", "len('a')", "[1][0]", "1 if a else 2",
+                            "lambda: 1"):
+                with self.subTest(form=form, default=default):
+                    found = faults(form.replace("{0}", default))
+                    self.assertTrue([fault for fault in found if fault.startswith("L4 the default")])
+            for default in ("0", "1", "-1", "''", "'none'", "True", "False", "None"):
+                with self.subTest(form=form, default=default):
+                    self.assertEqual(faults(form.replace("{0}", default)), [])
 
     def test_a_local_like_an_import_or_a_class_is_seen(self):
         for text in ("from p.b import x\ndef f(x):\n    return x", "class A:\n    pass\ndef f(a):\n    A = a"):

@@ -61,6 +61,12 @@ class Interface(unittest.TestCase):
         for name, arguments in told.items():
             self.assertEqual(list(inspect.signature(getattr(Rule(), name)).parameters), arguments)
 
+    def test_the_base_by_itself_answers(self):
+        rule = Rule()
+        self.assertEqual([rule.on(day) for day in (-FAR, -1, 0, 1, FAR)], [False] * 5)
+        self.assertEqual((rule.size(), rule.turn(), rule.shown()), (1, (1, 0), "none"))
+        self.assertEqual(rule.parts(), [rule])
+
     def test_no_kind_is_another_one(self):
         for kind in list(PAIRS.values()) + [All, No, Each, Dated, Not, Later, Kth, Every]:
             self.assertFalse(issubclass(kind, tuple(other for other in PAIRS.values() if other is not kind)))
